@@ -1,0 +1,1 @@
+"""Leafround: a notebook that several houses keep at once."""
