@@ -1,4 +1,4 @@
-"""What hands, names, signs and acts look like, asked of anything."""
+"""What hands, names, signs and acts look like, asked of anything; and likeness, asked of anything."""
 
 
 def is_number(thing):
@@ -82,3 +82,20 @@ def is_act(thing):
         if not form(part):
             return False
     return True
+
+
+def is_like(thing, due):
+    """Whether anything is what is due, by its kinds too: no truth is like a number, no list like a tuple."""
+    if due is None:
+        return thing is None
+    if isinstance(due, bool):
+        return isinstance(thing, bool) and thing == due
+    if isinstance(due, int):
+        return isinstance(thing, int) and not isinstance(thing, bool) and thing == due
+    if isinstance(due, str):
+        return isinstance(thing, str) and thing == due
+    if isinstance(due, tuple) and not isinstance(thing, tuple):
+        return False
+    if isinstance(due, list) and not isinstance(thing, list):
+        return False
+    return len(thing) == len(due) and all([is_like(one, other) for one, other in zip(thing, due)])
