@@ -1,11 +1,16 @@
 """What answers are, and what operations make of them."""
 
+from leafround.forms import is_name, is_number
+
 # An answer is beyond its bounds where its number has more figures than sixty, its text more signs,
 # its list more answers in it (those within these too) or more lists within one another.
 NUMBERS_END = 10 ** 60
 WORDS_MOST = 400
 ANSWERS_MOST = 200
 LISTS_MOST = 4
+
+# The words of faults that tell a cell and an at; from and ring tell a cell alone.
+PLACED = ("kind", "nought", "index", "great", "steps", "deep", "nobody", "twice", "source")
 
 
 def is_answer(thing):
@@ -54,6 +59,24 @@ def measured(items):
 
 def is_fault(answer):
     return answer[0] == "fault"
+
+
+def is_told(thing):
+    """Whether a thing is an answer or a fault."""
+    return is_answer(thing) or has_fault_form(thing)
+
+
+def has_fault_form(thing):
+    if not isinstance(thing, tuple) or not 3 <= len(thing) <= 4 or thing[0] != "fault" or not is_name(thing[2]):
+        return False
+    if len(thing) == 3:
+        return thing[1] in ("from", "ring")
+    return thing[1] in PLACED and is_number(thing[3])
+
+
+def is_endless(answer):
+    """Whether an answer is a fault for which there are no whys."""
+    return is_fault(answer) and answer[1] in ("steps", "deep")
 
 
 def fault_at(told, cell, at):

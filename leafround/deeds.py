@@ -59,6 +59,10 @@ class Past:
         """The seen of a deed that has seen all of these."""
         return tuple([(hand, self.many_of(hand)) for hand in sorted(self._reach)])
 
+    def is_whole(self, table):
+        """Whether all that a table tells of is taken in, and all that had been seen there lies in it."""
+        return all([self.many_of(hand) >= many for hand, many in table]) and self._has_seen_all(table)
+
     def next_stamp(self, seen):
         """The stamp of a deed that has seen this."""
         return max([self._reach[hand][many - 1][0] + 1 for hand, many in seen], default=0)

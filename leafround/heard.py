@@ -16,7 +16,7 @@ class Heard:
         self._past = Past(taken)
         self._taken = self._past.by_name
         self._waiting = {}
-        # The names of those that wait, by the name that each lacks first.
+        # The names of those that wait, by a name that each lacks.
         self._behind = {}
         # Those that wait though they lack nothing any more, as a heap by marks.
         self._ready = []
@@ -60,6 +60,10 @@ class Heard:
         """The seen that a deed told now has."""
         return self._past.seen()
 
+    def is_whole(self, table):
+        """Whether what a table tells of was taken in, and has seen nothing beyond it."""
+        return self._past.is_whole(table)
+
     def deed(self, name):
         """The deed of this name that was taken in, or None."""
         return self._taken.get(name) if is_name(name) else None
@@ -102,7 +106,9 @@ class Heard:
         if lacked is None:
             heappush(self._ready, (mark_of(deed), name_of(deed)))
         else:
-            self._behind.setdefault(lacked, []).append(name_of(deed))
+            # The last one that it lacks of that hand: all others of that hand come in ahead of it.
+            last = (lacked[0], dict(deed[3])[lacked[0]] - 1)
+            self._behind.setdefault(last, []).append(name_of(deed))
 
     def _take_in(self, deed):
         self._past.put(deed)

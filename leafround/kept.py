@@ -14,20 +14,20 @@ class Settling:
         self.answers = {}
         self._steps = steps
         # What each name leads to that is given; a cell without arguments only once it is settled.
-        self._world = {}
+        self.world = {}
         for name in self.laid.givers:
             cells = self.laid.givers[name]
             if len(cells) > 1:
-                self._world[name] = ("twice",)
+                self.world[name] = ("twice",)
             elif self.laid.takes_arguments(cells[0]):
                 _, _, params, tree = self.laid.sources[cells[0]]
-                self._world[name] = ("body", cells[0], params, tree)
+                self.world[name] = ("body", cells[0], params, tree)
 
     def settle(self, cell, answer):
         self.answers[cell] = answer
         told = self.laid.sources[cell]
         if told[0] == "gives" and len(self.laid.givers[told[1]]) == 1:
-            self._world[told[1]] = ("answer", cell, answer)
+            self.world[told[1]] = ("answer", cell, answer)
 
     def read(self, cell):
         """The reading of a cell: (answer, steps, notes)."""
@@ -36,12 +36,12 @@ class Settling:
             return (("fault", "source", cell, told[1]), 0, [])
         if not is_tree(told):
             return (None, 0, [])
-        answer, steps, reads = meaning(cell, told[-1], self._world, steps=self._steps)
+        answer, steps, reads = meaning(cell, told[-1], self.world, steps=self._steps)
         return (answer, steps, [self.note(name) for name, _ in reads])
 
     def note(self, name):
         """What a name leads to now, as a note."""
-        lead = self._world.get(name, ("nobody",))
+        lead = self.world.get(name, ("nobody",))
         if lead[0] == "body":
             return (name, "text", lead[1], self.laid.texts[lead[1]])
         return (name, *lead)
@@ -57,13 +57,18 @@ class Settling:
         return found
 
 
+def settled(sheet, answers, *, steps=STEPS):
+    """A sheet whose cells without arguments answer so, as far as it is told; answers a dict."""
+    settling = Settling(sheet, steps)
+    for cell in settling.laid.sources:
+        if cell in answers and not settling.laid.takes_arguments(cell):
+            settling.settle(cell, answers[cell])
+    return settling
+
+
 def reading(sheet, cell, answers, *, steps=STEPS):
     """The reading of a cell, where those that it leads to answer so: (answer, steps, notes)."""
-    settling = Settling(sheet, steps)
-    for other in settling.laid.sources:
-        if other in answers and not settling.laid.takes_arguments(other):
-            settling.settle(other, answers[other])
-    return settling.read(cell)
+    return settled(sheet, answers, steps=steps).read(cell)
 
 
 def fresh(sheet, *, steps=STEPS):

@@ -18,18 +18,25 @@ def is_ring(sheet, cell, thing):
     laid = Sheet(sheet)
     if cell not in laid.sources or laid.takes_arguments(cell):
         return False
-    if not isinstance(thing, list) or not all([is_name(one) and one in laid.sources for one in thing]):
+    return leads_round(laid.leads(), cell, thing)
+
+
+def leads_round(leads, cell, thing):
+    """Whether anything is a list of unlike cells from a cell on, each leading to the next, the last one to it."""
+    if not isinstance(thing, list) or not all([is_name(one) and one in leads for one in thing]):
         return False
     if len(set(thing)) != len(thing) or thing[:1] != [cell]:
         return False
-    leads = laid.leads()
     return all([other in leads[one] for one, other in zip(thing, thing[1:] + thing[:1])])
 
 
 def levels(sheet):
     """Levels of all cells, by the sheet's order: the least ones that can be."""
     laid = Sheet(sheet)
-    leads = laid.leads()
+    return least_levels(laid, laid.leads())
+
+
+def least_levels(laid, leads):
     falls = falls_of(laid, leads)
     found = {}
     for knot in knots(leads):

@@ -1,6 +1,6 @@
 """Whys: a row for each expression gone into, told, and judged one by one."""
 
-from leafround.answers import is_answer, is_fault
+from leafround.answers import is_answer, is_endless, is_fault
 from leafround.errors import NoWhy
 from leafround.forms import is_like, is_name, is_number, is_rising
 from leafround.going import FORMS, Ended, Going, spots_of
@@ -11,7 +11,7 @@ def whys(cell, tree, world):
     """A row of each expression gone into: (cell, number, given, parts, answer), as they end."""
     walk = Walk(cell, tree, world, STEPS)
     answer = walk.answer()
-    if is_fault(answer) and answer[1] in ("steps", "deep"):
+    if is_endless(answer):
         raise NoWhy(answer[1])
     return [(spot.cell, spot.number, in_order(given), parts, told) for spot, given, parts, told in walk.trace]
 
